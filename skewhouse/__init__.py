@@ -1,0 +1,1 @@
+"""Skewhouse: dealings woven together, and a judge beside."""
