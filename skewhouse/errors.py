@@ -40,7 +40,8 @@ class NoRow(SkewError):
 class Waits(SkewError):
 
     def __init__(self, dealing, others):
-        SkewError.__init__(self, f"dealing {dealing} must wait")
+        # No number stands in the words, here and at Broken: it may have too many figures for str.
+        SkewError.__init__(self, "a dealing must wait")
         self.dealing = dealing
         # A copy, so that what the asker does to the list later doesn't show here.
         self.others = list(others)
@@ -49,7 +50,6 @@ class Waits(SkewError):
 class Broken(SkewError):
 
     def __init__(self, dealing, why):
-        # The reason is left out of the words: its numbers may have too many figures for str.
-        SkewError.__init__(self, f"dealing {dealing} is broken off")
+        SkewError.__init__(self, "a dealing is broken off")
         self.dealing = dealing
         self.why = why

@@ -84,6 +84,11 @@ class FieldsTest(unittest.TestCase):
         self.assertEqual(refusal.why, why)
         self.assertIsInstance(str(refusal), str)
 
+    def test_a_dealing_with_a_very_long_number_can_be_refused(self):
+        for refusal in [Waits(10 ** 5000, [10 ** 5001]), Broken(10 ** 5000, ("own",))]:
+            self.assertTrue(refusal.dealing == 10 ** 5000)
+            self.assertIsInstance(str(refusal), str)
+
 
 if __name__ == "__main__":
     unittest.main()

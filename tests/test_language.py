@@ -28,6 +28,14 @@ comprehension BinOp Add Sub Mult FloorDiv Mod Pow LShift RShift BitAnd BitOr Bit
 BoolOp And Or Compare Eq NotEq Lt LtE Gt GtE Is IsNot In NotIn IfExp Call keyword JoinedStr FormattedValue
 ImportFrom alias""".split())
 
+# L17: names that stand nowhere, and names that are no plain names (Python's own are told by OWN_NAMES).
+NOWHERE = set("register mro elements open input version_info with_traceback add_note format format_map".split())
+NO_NAMES = set("attrgetter builtins gc importlib methodcaller os sys".split())
+
+# L26: what Python's own values have, and which of these names an object's value may bear all the same.
+PYTHONS = set().union(*[dir(kind) for kind in (str, int, list, tuple, dict, set, frozenset, bytes)])
+VALUES = set("count index title find get join lower upper split strip copy add".split())
+
 WORDS = re.compile(
     r"\b(?:type|typing|typing_extensions|enum|Enum|IntEnum|StrEnum|Flag|IntFlag|Generic|Protocol|ABC|ABCMeta"
     r"|namedtuple|NamedTuple|TypedDict|TYPE_CHECKING|abstractmethod)\b|dataclass|overload|contextmanager"
@@ -67,6 +75,15 @@ def own_methods():
     return names
 
 
+def own_values():
+    names = set()
+    for name in files():
+        for node in ast.walk(tree_of(name)):
+            if isinstance(node, ast.Attribute) and isinstance(node.ctx, ast.Store):
+                names.add(node.attr)
+    return names
+
+
 class FilesTest(unittest.TestCase):
     def test_names_of_files(self):
         self.assertIn("__init__.py", files())
@@ -95,6 +112,26 @@ class FilesTest(unittest.TestCase):
             self.assertIsNotNone(ast.get_docstring(tree_of(name)), name)
             for node in tops[1:]:
                 self.assertIsInstance(node, (ast.ImportFrom, ast.FunctionDef, ast.ClassDef, ast.Assign), name)
+
+    def test_the_values_at_the_top_of_each_file(self):
+        plain = (ast.Constant, ast.List, ast.Tuple, ast.Dict, ast.UnaryOp, ast.USub, ast.Load)
+        for name in files():
+            tops = tree_of(name).body
+            defined = [node.name for node in tops if isinstance(node, ast.FunctionDef)]
+            for given in [node for node in tops if isinstance(node, ast.Assign)]:
+                for node in ast.walk(given.value):
+                    if isinstance(node, ast.Name):
+                        self.assertIn(node.id, defined, f"{name}:{node.lineno}")
+                    else:
+                        self.assertIsInstance(node, plain, f"{name}:{given.lineno}")
+
+    def test_classes_hold_methods_alone(self):
+        for name in files():
+            for node in ast.walk(tree_of(name)):
+                if isinstance(node, ast.ClassDef):
+                    self.assertLessEqual(len(node.bases), 1, node.name)
+                    for part in node.body:
+                        self.assertIsInstance(part, (ast.FunctionDef, ast.Pass), node.name)
 
 
 class ImportsTest(unittest.TestCase):
@@ -185,12 +222,20 @@ class CodeTest(unittest.TestCase):
                     self.assertIn(node.func.attr, METHODS | own, f"{name}:{node.lineno}")
 
     def test_no_name_is_both_a_method_and_a_value(self):
-        values = set()
+        self.assertEqual(own_values() & own_methods(), set())
+
+    def test_no_name_is_one_of_pythons_own_values(self):
+        self.assertEqual((own_methods() & PYTHONS) - METHODS - DUNDERS - {"add", "discard"}, set())
+        self.assertEqual((own_values() & PYTHONS) - VALUES, set())
+        self.assertNotIn("args", own_values())
+
+    def test_names_that_are_not_used(self):
         for name in files():
             for node in ast.walk(tree_of(name)):
-                if isinstance(node, ast.Attribute) and isinstance(node.ctx, ast.Store):
-                    values.add(node.attr)
-        self.assertEqual(values & own_methods(), set())
+                if isinstance(node, ast.Name):
+                    self.assertNotIn(node.id, NOWHERE | NO_NAMES, f"{name}:{node.lineno}")
+                if isinstance(node, ast.Attribute):
+                    self.assertNotIn(node.attr, NOWHERE, f"{name}:{node.lineno}")
 
 
 if __name__ == "__main__":
