@@ -28,6 +28,18 @@ def number_of(text):
     return int(text)
 
 
+def written(number):
+    # In parts, because str refuses numbers of some thousand figures, and those that come up may have as many.
+    rest = abs(number)
+    parts = []
+    while rest >= 10 ** 64:
+        parts.append(str(rest % 10 ** 64).zfill(64))
+        rest = rest // 10 ** 64
+    parts.append(str(rest))
+    sign = "-" if number < 0 else ""
+    return sign + "".join(reversed(parts))
+
+
 def is_letter(text):
     return len(text) == 1 and "a" <= text <= "z"
 

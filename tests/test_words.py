@@ -4,7 +4,7 @@ import unittest
 from fractions import Fraction
 
 from skewhouse.errors import NoNumber
-from skewhouse.words import is_letter, is_level, is_whole, number_of, operand_of, worth
+from skewhouse.words import is_letter, is_level, is_whole, number_of, operand_of, worth, written
 
 SIGNS = [chr(code) for code in range(ord(" "), ord("~") + 1)] + ["\n"]
 LETTERS = "abcdefghijklmnopqrstuvwxyz"
@@ -103,6 +103,20 @@ class WrittenNumberTest(unittest.TestCase):
             self.assertRaises(NoNumber, number_of, "0" + text)
             if number < 0:
                 self.assertRaises(NoNumber, number_of, text.replace("-", "-0"))
+
+    def test_numbers_are_written_as_they_are_read(self):
+        for text, number in NUMBERS.items():
+            self.assertEqual(written(number), text)
+        for number in range(-120, 121):
+            self.assertEqual(written(number), str(number))
+
+    def test_numbers_of_more_figures_are_written(self):
+        for many in [30, 31, 63, 64, 65, 127, 128, 129, 192, 1000]:
+            for number in [10 ** many, 10 ** many - 1, 10 ** many + 1, 10 ** many + 10 ** (many // 2), 7 ** many]:
+                self.assertEqual(written(number), str(number))
+                self.assertEqual(written(-number), str(-number))
+        self.assertTrue(written(10 ** 9000 + 5) == "1" + "0" * 8999 + "5")
+        self.assertTrue(written(-(10 ** 9000)) == "-1" + "0" * 9000)
 
 
 class LetterTest(unittest.TestCase):

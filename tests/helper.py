@@ -1,0 +1,348 @@
+"""What several tests share: houses of texts, houses and histories drawn by a seed, and second accounts of a house.
+
+Account plays the turns over again, by points 52 to 58, with nothing of the package but the reading of deeds; Told
+tells of the rows of a log what a house is to tell by points 57 and 59.
+"""
+
+import itertools
+import random
+
+from skewhouse.house import House
+from skewhouse.programs import read_program
+
+WORDS = ["loose", "kept", "make", "watch", "hold"]
+
+
+def programs_of(*texts):
+    return [read_program(text) for text in texts]
+
+
+def house_of(rows, *texts):
+    return House(rows, programs_of(*texts))
+
+
+def woven(rows, texts, numbers):
+    house = house_of(rows, *texts)
+    house.weave(numbers)
+    return house
+
+
+def drawn_key(chance):
+    return chance.choice(["a", "b"]) if chance.random() < 0.15 else chance.randint(1, 5)
+
+
+def drawn_worth(chance):
+    return chance.choice(["a", "b", "c", "z"]) if chance.random() < 0.7 else chance.randint(-3, 6)
+
+
+def drawn_deed(chance):
+    letter, low = chance.choice("abc"), chance.randint(0, 5)
+    deeds = [("read", letter, drawn_key(chance))] * 3
+    deeds += [(chance.choice(["sum", "count"]), letter, low, low + chance.randint(-1, 4))] * 2
+    deeds += [("put", drawn_key(chance), drawn_worth(chance))] * 5 + [("take", drawn_key(chance))] * 2
+    deeds += [("let", letter, drawn_worth(chance), chance.choice("+-"), drawn_worth(chance))]
+    deeds += [("skip", drawn_worth(chance), drawn_worth(chance), chance.randint(1, 3))]
+    if chance.random() < 0.3:
+        deeds += [("stop", drawn_worth(chance), drawn_worth(chance))]
+    return chance.choice(deeds)
+
+
+def drawn_program(chance, words, most):
+    return (chance.choice(words), [drawn_deed(chance) for turn in range(chance.randint(0, most))])
+
+
+def drawn(seed, words=WORDS, dealings=5, most=7):
+    """First rows, programs and a weaving, all by the seed alone."""
+    chance = random.Random(seed)
+    rows = {key: chance.randint(-2, 9) for key in chance.sample(range(1, 6), chance.randint(0, 5))}
+    programs = [drawn_program(chance, words, most) for number in range(chance.randint(1, dealings))]
+    weaving = [chance.randint(1, len(programs)) for turn in range(chance.randint(0, 6 * len(programs)))]
+    return rows, programs, weaving
+
+
+def drawn_house(seed, words=WORDS, dealings=5, most=7):
+    """A house of the seed, woven and rested."""
+    rows, programs, weaving = drawn(seed, words, dealings, most)
+    house = House(rows, programs)
+    house.weave(weaving)
+    house.rest()
+    return house
+
+
+def drawn_history(chance):
+    """A history, whether any order is allowed for it or not."""
+    numbers = sorted(chance.sample(range(1, 9), chance.randint(0, 4)))
+    keys = sorted(chance.sample(range(-3, 12), 5))
+    makes = []
+    for key in keys:
+        makers = chance.sample(numbers, chance.randint(0, len(numbers)))
+        makes += [(key, makers)] if makers else []
+    deals = []
+    for number in numbers:
+        looks = []
+        for place in range(chance.randint(0, 3)):
+            look = []
+            for key in sorted(chance.sample(keys, chance.randint(0, 3))):
+                makers = [maker for maker in dict(makes).get(key, []) if maker != number]
+                look.append((key, chance.choice([0, -1] + makers)))
+            looks.append(look)
+        deals.append((number, chance.choice(WORDS), looks))
+    return (deals, makes)
+
+
+def least_ring(waits, start):
+    """Of all rings of unlike dealings from the start the shortest, of these the least."""
+    others = [number for number in waits if number != start]
+    for many in range(1, len(others) + 1):
+        for rest in sorted(itertools.permutations(others, many)):
+            chain = (start,) + rest
+            if all(after in waits[before] for before, after in zip(chain, chain[1:] + (start,))):
+                return chain
+    return None
+
+
+class Account:
+    """A plain second account of the rows that a house tells."""
+
+    def __init__(self, rows, programs):
+        self.programs = programs
+        many = range(1, len(programs) + 1)
+        # Of each stamp what was kept then: under a key (stamp, maker, value or None).
+        self.states = [{key: (0, 0, value) for key, value in rows.items()}]
+        self.place = dict.fromkeys(many, 0)
+        self.names = {number: {} for number in many}
+        self.drafts = {number: {} for number in many}
+        self.looks = {number: [] for number in many}
+        self.begin, self.ended, self.waiting, self.kept = {}, {}, {}, {}
+        self.locks = []
+        self.log = []
+
+    def play(self, weaving):
+        for number in weaving:
+            self.turn(number)
+        while len(self.ended) < len(self.programs):
+            for number in range(1, len(self.programs) + 1):
+                if number not in self.ended:
+                    self.turn(number)
+        return self.log
+
+    def turn(self, number):
+        self.states.append(dict(self.states[-1]))
+        self.now = len(self.states) - 1
+        if number in self.ended:
+            return self.tell(number, "idle")
+        self.begin.setdefault(number, self.now)
+        self.waiting.pop(number, None)
+        deeds = self.programs[number - 1][1]
+        if self.place[number] == len(deeds):
+            return self.keep(number)
+        return self.deed(number, deeds[self.place[number]])
+
+    def tell(self, number, *parts):
+        self.log.append((self.now, number) + parts)
+
+    def worth(self, number, operand):
+        return self.names[number].get(operand, 0) if isinstance(operand, str) else operand
+
+    def deed(self, number, deed):
+        word = self.programs[number - 1][0]
+        worths = [self.worth(number, part) for part in deed]
+        if deed[0] in ("read", "sum", "count"):
+            low, high = worths[2], worths[-1]
+            if word == "hold" and not self.lock(number, deed, low, high, False):
+                return
+            self.see(number, word, deed, low, high)
+        elif deed[0] in ("put", "take"):
+            stamp, maker, value = self.states[-1].get(worths[1], (0, 0, None))
+            if word in ("make", "watch") and stamp > self.begin[number]:
+                return self.break_off(number, ("first", worths[1], maker))
+            if not self.lock(number, deed, worths[1], worths[1], True):
+                return
+            self.drafts[number][worths[1]] = worths[2] if deed[0] == "put" else None
+            self.tell(number, "put", worths[1], self.drafts[number][worths[1]])
+        elif deed[0] == "let":
+            self.names[number][deed[1]] = worths[2] + worths[4] * (1 if deed[3] == "+" else -1)
+            self.tell(number, "let", deed[1], self.names[number][deed[1]])
+        elif deed[0] == "stop" and worths[1] < worths[2]:
+            return self.break_off(number, ("own",))
+        self.place[number] += 1
+        if deed[0] in ("skip", "stop"):
+            if deed[0] == "skip" and worths[1] < worths[2]:
+                self.place[number] = min(self.place[number] + deed[3], len(self.programs[number - 1][1]))
+            self.tell(number, "go", self.place[number])
+
+    def see(self, number, word, deed, low, high):
+        stand = self.begin[number] if word in ("make", "watch") else self.now
+        values = {key: make[2] for key, make in self.states[stand].items()}
+        if word == "loose":
+            for other in self.begin:
+                if other != number and other not in self.ended:
+                    values.update(self.drafts[other])
+        values.update(self.drafts[number])
+        seen = [(key, values[key]) for key in sorted(values) if low <= key <= high and values[key] is not None]
+        told = [value for key, value in seen]
+        tells = {"read": sum(told[:1]), "sum": sum(told), "count": len(told)}
+        self.names[number][deed[1]] = tells[deed[0]]
+        self.looks[number].append((stand, low, high, list(self.drafts[number])))
+        self.tell(number, "look", low, high, tuple(seen))
+
+    def against(self, number, low, high, own):
+        found = []
+        for other, other_low, other_high, other_own in self.locks:
+            common = low <= high and other_low <= other_high and low <= other_high and other_low <= high
+            if other != number and common and (own or other_own):
+                found.append(other)
+        return sorted(set(found))
+
+    def lock(self, number, deed, low, high, own):
+        """Takes the hold, or tells the wait or the ring: then the deed is not done."""
+        others = self.against(number, low, high, own)
+        if not others:
+            self.locks.append((number, low, high, own))
+            self.waiting.pop(number, None)
+            return True
+        self.waiting[number] = (low, high, own)
+        waits = {each: self.against(each, *wanted) for each, wanted in self.waiting.items()}
+        chain = least_ring(waits, number)
+        if chain is None:
+            self.tell(number, "wait", tuple(others))
+            return False
+        last = max(chain, key=self.begin.get)
+        self.break_off(last, ("ring", chain))
+        return last != number and self.lock(number, deed, low, high, own)
+
+    def finish(self, number):
+        self.ended[number] = self.now
+        self.waiting.pop(number, None)
+        self.locks = [lock for lock in self.locks if lock[0] != number]
+
+    def break_off(self, number, why):
+        self.finish(number)
+        self.tell(number, "broken", why)
+
+    def older(self, one, other):
+        """The keys on which the one saw what stood ahead of the other one's make."""
+        found = []
+        for key in sorted(self.drafts[other]):
+            for stand, low, high, own in self.looks[one]:
+                if one != other and stand < self.kept[other] and low <= key <= high and key not in own:
+                    found.append(key)
+        return found
+
+    def closing(self, number):
+        watched = [mid for mid in sorted(self.kept) if self.programs[mid - 1][0] == "watch"]
+        for mid, one, other in itertools.product(watched, sorted(self.kept), sorted(self.kept)):
+            if number in (one, mid) and self.kept[one] > self.begin[mid] and self.kept[other] < self.kept[mid]:
+                first, second = self.older(one, mid), self.older(mid, other)
+                if first and second:
+                    return ("edges", one, first[0], mid, second[0], other)
+        return None
+
+    def keep(self, number):
+        if self.programs[number - 1][0] == "loose":
+            self.looks[number] = []
+        self.kept[number] = self.now
+        why = self.closing(number)
+        if why is not None:
+            self.kept.pop(number)
+            return self.break_off(number, why)
+        made = sorted(self.drafts[number].items())
+        self.states[-1].update({key: (self.now, number, value) for key, value in made})
+        self.finish(number)
+        self.tell(number, "kept", tuple(made))
+
+
+class Told:
+    """What is told of the rows of a log alone, by points 57 and 59."""
+
+    def __init__(self, first, words, log):
+        self.first, self.words, self.log = first, words, log
+        self.numbers = range(1, len(words) + 1)
+        self.begin, self.end, self.state, self.why = {}, {}, dict.fromkeys(self.numbers, "new"), {}
+        for row in log:
+            self.begin.setdefault(row[1], row[0])
+            if row[2] in ("kept", "broken"):
+                self.end[row[1]] = row[0]
+                self.why[row[1]] = row[3] if row[2] == "broken" else None
+            if row[2] != "idle":
+                self.state[row[1]] = {"kept": "kept", "broken": "broken", "wait": "waiting"}.get(row[2], "going")
+        self.keeps = [row for row in log if row[2] == "kept"]
+
+    def kept(self):
+        return [row[1] for row in self.keeps]
+
+    def rows(self):
+        values = dict(self.first)
+        for row in self.keeps:
+            values.update(row[3])
+        return sorted((key, value) for key, value in values.items() if value is not None)
+
+    def made(self):
+        found = {}
+        for row in self.keeps:
+            for key, value in row[3]:
+                found.setdefault(key, []).append(row[1])
+        return sorted(found.items())
+
+    def looks(self, number):
+        """The rows of its looks, each with its stand."""
+        late = self.words[number - 1] in ("make", "watch")
+        looks = [row for row in self.log if row[1] == number and row[2] == "look"]
+        return [(self.begin[number] if late else row[0], row) for row in looks]
+
+    def wrote(self, number, key, low, high):
+        """Whether it put or took the key at a stamp from low to less than high."""
+        return any(row[1:4] == (number, "put", key) and low <= row[0] < high for row in self.log)
+
+    def drafter(self, number, key, stamp):
+        """The other dealing that had put or taken the key by that stamp, and not ended, or None."""
+        for other in self.numbers:
+            if other != number and self.wrote(other, key, 0, stamp) and self.end.get(other, stamp) >= stamp:
+                return other
+        return None
+
+    def source(self, number, key, stand, row):
+        other = self.drafter(number, key, row[0]) if self.words[number - 1] == "loose" else None
+        if other is not None:
+            behind = self.wrote(other, key, row[0], len(self.log) + 1)
+            return other if self.state[other] == "kept" and not behind else -1
+        makers = [keep[1] for keep in self.keeps if keep[0] <= stand and key in dict(keep[3])]
+        return ([0] + makers)[-1]
+
+    def looked(self, number):
+        if self.state[number] != "kept":
+            return []
+        keys = {key for key, makers in self.made()}
+        puts = {row[3] for row in self.log if row[2] == "put"}
+        found = []
+        for stand, row in self.looks(number):
+            pairs = []
+            for key in sorted(keys | puts):
+                loose = self.words[number - 1] == "loose" and self.drafter(number, key, row[0]) is not None
+                own = self.wrote(number, key, 0, row[0])
+                if row[3] <= key <= row[4] and not own and (key in keys or loose):
+                    pairs.append((key, self.source(number, key, stand, row)))
+            found.append(pairs)
+        return found
+
+    def early(self, number):
+        for stand, look in self.looks(number):
+            for keep in self.keeps:
+                seen = [key for key, value in keep[3] if look[3] <= key <= look[4]]
+                seen = [key for key in seen if not self.wrote(number, key, 0, look[0])]
+                if seen and self.begin[number] < keep[0] < self.end[number]:
+                    return True
+        return False
+
+    def stamps(self, number):
+        word, begin, end = self.words[number - 1], self.begin[number], self.end[number]
+        if word == "watch":
+            return [begin if self.early(number) else end]
+        stands = [stand for stand, row in self.looks(number)]
+        return {"loose": [end], "kept": stands + [end], "make": [begin, end], "hold": [end]}[word]
+
+    def order(self):
+        spots = []
+        for number in self.kept():
+            spots += [(stamp, number, place) for place, stamp in enumerate(self.stamps(number))]
+        return [spot[1:] for spot in sorted(spots)]
