@@ -1,7 +1,7 @@
 """What several tests share: houses of texts, houses and histories drawn by a seed, and second accounts of a house.
 
-Account plays the turns over again, by points 52 to 58, with nothing of the package but the reading of deeds; Told
-tells of the rows of a log what a house is to tell by points 57 and 59.
+Account plays the turns over again, by points 52 to 58, with nothing of the package; Told tells of the rows of a log
+what a house is to tell by points 57 and 59.
 """
 
 import itertools
