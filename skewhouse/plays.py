@@ -1,20 +1,7 @@
 """Orders of spots, walked: whether one is allowed for a history."""
 
-from skewhouse.levels import level_of
 from skewhouse.shelf import START
-
-
-def levels_of(past, word):
-    return dict([(deal[0], level_of(deal[1] if word is None else word)) for deal in past[0]])
-
-
-def spots_of(past, levels):
-    # They rise, as the numbers of the deals do.
-    spots = []
-    for deal in past[0]:
-        many = levels[deal[0]].spots(len(deal[2]))
-        spots.extend([(deal[0], place) for place in range(many)])
-    return spots
+from skewhouse.spots import firsts_of, keeps_of, levels_of, spots
 
 
 def comes_by_places(order):
@@ -36,38 +23,32 @@ def finds(look, makers):
 
 def looks_find(past, order, levels):
     deals = dict([(deal[0], deal) for deal in past[0]])
+    keeps = keeps_of(past, levels)
     makers = {}
     for spot in order:
-        deal = deals[spot[0]]
-        level = levels[spot[0]]
         # The looks come ahead of the keep, where both are at this spot.
-        if not all([finds(look, makers) for look in looks_at(deal, level, spot[1])]):
+        looks = looks_at(deals[spot[0]], levels[spot[0]], spot[1])
+        if not all([finds(look, makers) for look in looks]):
             return False
-        if spot[1] == level.spots(len(deal[2])) - 1:
+        if spot == keeps[spot[0]]:
             makers.update([(made[0], spot[0]) for made in past[1] if spot[0] in made[1]])
     return True
 
 
 def makes_follow(past, order, levels):
-    firsts = {}
-    keeps = {}
-    for deal in past[0]:
-        level = levels[deal[0]]
-        firsts[deal[0]] = order.index((deal[0], level.first_spot(len(deal[2]))))
-        keeps[deal[0]] = order.index((deal[0], level.spots(len(deal[2])) - 1))
+    keeps = keeps_of(past, levels)
+    firsts = firsts_of(past, levels)
     # No first spot is behind its keep. So where each maker is kept ahead of the next one's first spot, the makers are
     # kept in this order, and none of them between the first spot and the keep of another.
     for made in past[1]:
-        if not all([keeps[one] < firsts[other] for one, other in zip(made[1], made[1][1:])]):
-            return False
+        for one, other in zip(made[1], made[1][1:]):
+            if order.index(keeps[one]) >= order.index(firsts[other]):
+                return False
     return True
 
 
 def allowed(past, order, word=None):
-    if word is not None:
-        # Made for its refusal alone: a history without deals would ask for no level.
-        level_of(word)
     levels = levels_of(past, word)
-    if sorted(order) != spots_of(past, levels) or not comes_by_places(order):
+    if sorted(order) != spots(past, word) or not comes_by_places(order):
         return False
     return looks_find(past, order, levels) and makes_follow(past, order, levels)

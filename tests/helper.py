@@ -1,7 +1,8 @@
-"""What several tests share: houses of texts, houses and histories drawn by a seed, and second accounts of a house.
+"""What several tests share: houses of texts, houses and histories drawn by a seed, and second accounts.
 
 Account plays the turns over again, by points 52 to 58, with nothing of the package; Told tells of the rows of a log
-what a house is to tell by points 57 and 59.
+what a house is to tell by points 57 and 59. The spots, edges, allowed orders and rings of a history are told over again
+from the words of points 51, 65 and 72 to 75, with nothing of the package either.
 """
 
 import itertools
@@ -11,6 +12,7 @@ from skewhouse.house import House
 from skewhouse.programs import read_program
 
 WORDS = ["loose", "kept", "make", "watch", "hold"]
+NO_WORDS = ["", "none", "Watch", "watch ", " kept", "wat", "held", "read", "loosekept", "0", "?"]
 
 
 def programs_of(*texts):
@@ -69,8 +71,8 @@ def drawn_house(seed, words=WORDS, dealings=5, most=7):
     return house
 
 
-def drawn_history(chance):
-    """A history, whether any order is allowed for it or not."""
+def drawn_history(chance, unkept=(-1,)):
+    """A history, whether any order is allowed for it or not; with unkept as () none of its reads is of what was never kept."""
     numbers = sorted(chance.sample(range(1, 9), chance.randint(0, 4)))
     keys = sorted(chance.sample(range(-3, 12), 5))
     makes = []
@@ -84,7 +86,7 @@ def drawn_history(chance):
             look = []
             for key in sorted(chance.sample(keys, chance.randint(0, 3))):
                 makers = [maker for maker in dict(makes).get(key, []) if maker != number]
-                look.append((key, chance.choice([0, -1] + makers)))
+                look.append((key, chance.choice([0, *unkept] + makers)))
             looks.append(look)
         deals.append((number, chance.choice(WORDS), looks))
     return (deals, makes)
@@ -98,6 +100,124 @@ def least_ring(waits, start):
             chain = (start,) + rest
             if all(after in waits[before] for before, after in zip(chain, chain[1:] + (start,))):
                 return chain
+    return None
+
+
+def spots_of(past, word=None):
+    """A second account of the spots of a history."""
+    found = []
+    for number, own, looks in past[0]:
+        many = {"loose": 1, "kept": len(looks) + 1, "make": 2, "watch": 1, "hold": 1}[word or own]
+        found += [(number, place) for place in range(many)]
+    return found
+
+
+def keep_of(past, number, word=None):
+    return max(spot for spot in spots_of(past, word) if spot[0] == number)
+
+
+def first_of(past, number, word=None):
+    late = [each for each, own, looks in past[0] if (word or own) in ("loose", "kept")]
+    return keep_of(past, number, word) if number in late else (number, 0)
+
+
+def pairs_at(past, spot, word=None):
+    """All pairs of the looks whose spot this is."""
+    found = []
+    for number, own, looks in past[0]:
+        for counted, look in enumerate(looks):
+            place = {"loose": None, "kept": counted}.get(word or own, 0)
+            found += look if (number, place) == spot else []
+    return found
+
+
+def is_allowed(past, order, word=None):
+    """A second account of point 65, sentence by sentence."""
+    if len(set(order)) < len(order) or set(order) != set(spots_of(past, word)):
+        return False
+    numbers = [deal[0] for deal in past[0]]
+    for number in numbers:
+        places = [place for each, place in order if each == number]
+        if places != sorted(places):
+            return False
+    keeps = {number: order.index(keep_of(past, number, word)) for number in numbers}
+    last = {}
+    for at, spot in enumerate(order):
+        if any(last.get(key, 0) != source for key, source in pairs_at(past, spot, word)):
+            return False
+        if keeps[spot[0]] == at:
+            last.update({key: spot[0] for key, makers in past[1] if spot[0] in makers})
+    for key, makers in past[1]:
+        if sorted(makers, key=keeps.get) != makers:
+            return False
+        for one, other in itertools.permutations(makers, 2):
+            if order.index(first_of(past, one, word)) <= keeps[other] <= keeps[one]:
+                return False
+    return True
+
+
+def is_edge(past, edge, word=None):
+    """Whether a tuple of two spots, a kind and a key is an edge of the history, by the words of point 72."""
+    spot, other, why, key = edge
+    if why == "own":
+        return key is None and spot[0] == other[0] and spot[1] < other[1]
+    makers = dict(past[1]).get(key, [])
+    if spot[0] == other[0]:
+        return False
+    places = {maker: place for place, maker in enumerate(makers, start=1)}
+    places[0] = 0
+    if why == "saw":
+        sources = [source for each, source in pairs_at(past, other, word) if each == key and source > 0]
+        by_keep = spot[0] in makers and spot == keep_of(past, spot[0], word)
+        return by_keep and any(places[spot[0]] <= places[source] for source in sources)
+    if why == "unseen":
+        sources = [source for each, source in pairs_at(past, spot, word) if each == key and source >= 0]
+        by_keep = other[0] in makers and other == keep_of(past, other[0], word)
+        return by_keep and any(places[other[0]] > places[source] for source in sources)
+    if spot[0] not in makers or other[0] not in makers or places[spot[0]] > places[other[0]]:
+        return False
+    return spot == keep_of(past, spot[0], word) and other == first_of(past, other[0], word)
+
+
+def edges_of(past, word=None):
+    """A second account of points 72 and 73: all that might be an edge, in their order, each asked whether it is one."""
+    keys = sorted({key for deal in past[0] for look in deal[2] for key, source in look} | set(dict(past[1])))
+    kinds = [("own", None)] + [(why, key) for why in ("saw", "unseen", "over") for key in keys]
+    spots = spots_of(past, word)
+    found = [(spot, other) + kind for spot in spots for other in spots for kind in kinds]
+    return [edge for edge in found if is_edge(past, edge, word)]
+
+
+def least_order(nodes, pairs):
+    """A second account of point 74: always the least of those ahead of which no node is still to come."""
+    left, order = set(nodes), []
+    while left:
+        held = {other for one, other in pairs if one in left}
+        if left <= held:
+            return None
+        order.append(min(left - held))
+        left.remove(order[-1])
+    return order
+
+
+def ring_from(chain, many, pairs):
+    """The least ring of so many nodes that goes on from the chain, all behind its first node greater than that one."""
+    if len(chain) == many:
+        return chain if (chain[-1], chain[0]) in pairs else None
+    for other in sorted({other for one, other in pairs if one == chain[-1]}):
+        found = ring_from(chain + [other], many, pairs) if other > chain[0] and other not in chain else None
+        if found is not None:
+            return found
+    return None
+
+
+def fewest_ring(nodes, pairs):
+    """A second account of point 75: from two nodes on, and from the least first node on."""
+    for many in range(2, len(nodes) + 1):
+        for node in sorted(nodes):
+            found = ring_from([node], many, set(pairs))
+            if found is not None:
+                return found
     return None
 
 

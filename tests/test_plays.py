@@ -9,55 +9,9 @@ import unittest
 from skewhouse.errors import NoLevel
 from skewhouse.histories import history, read_history
 from skewhouse.plays import allowed
-from tests.helper import WORDS, drawn_history, drawn_house, woven
+from tests.helper import NO_WORDS, WORDS, drawn_history, drawn_house, is_allowed, spots_of, woven
 
 BIG = 10 ** 30 - 1
-NO_WORDS = ["", "none", "Watch", "watch ", " kept", "wat", "held", "read", "loosekept", "0", "?"]
-
-SPOTS = {"loose": lambda looks: 1, "kept": lambda looks: looks + 1, "make": lambda looks: 2}
-FIRSTS = {"loose": lambda looks: 0, "kept": lambda looks: looks}
-
-
-def spots_of(past, word=None):
-    found = []
-    for number, own, looks in past[0]:
-        many = SPOTS.get(word or own, lambda looks: 1)(len(looks))
-        found += [(number, place) for place in range(many)]
-    return found
-
-
-def look_spot(level, place):
-    return {"loose": None, "kept": place}.get(level, 0)
-
-
-def second_account(past, order, word=None):
-    """A second account of point 65, sentence by sentence."""
-    deals = {number: (word or own, looks) for number, own, looks in past[0]}
-    if len(set(order)) < len(order) or set(order) != set(spots_of(past, word)):
-        return False
-    for number in deals:
-        places = [place for each, place in order if each == number]
-        if places != sorted(places):
-            return False
-    keeps = {number: max(at for at, spot in enumerate(order) if spot[0] == number) for number in deals}
-    last = {}
-    for at, (number, place) in enumerate(order):
-        level, looks = deals[number]
-        for counted, look in enumerate(looks):
-            for key, source in look:
-                if look_spot(level, counted) == place and last.get(key, 0) != source:
-                    return False
-        if keeps[number] == at:
-            last.update({key: number for key, makers in past[1] if number in makers})
-    for key, makers in past[1]:
-        if sorted(makers, key=keeps.get) != makers:
-            return False
-        for one, other in itertools.permutations(makers, 2):
-            level, looks = deals[one]
-            first = order.index((one, FIRSTS.get(level, lambda looks: 0)(len(looks))))
-            if first <= keeps[other] <= keeps[one]:
-                return False
-    return True
 
 
 class SpotsTest(unittest.TestCase):
@@ -266,7 +220,7 @@ class SecondAccountTest(unittest.TestCase):
                 spots = spots_of(past, word)
                 for order in itertools.permutations(spots) if len(spots) < 6 else []:
                     answer = allowed(past, list(order), word)
-                    self.assertIs(answer, second_account(past, list(order), word), (seed, word, order))
+                    self.assertIs(answer, is_allowed(past, list(order), word), (seed, word, order))
                     answers[answer] += 1
         self.assertGreater(min(answers.values()), 500)
 
@@ -276,14 +230,14 @@ class SecondAccountTest(unittest.TestCase):
             chance = random.Random(seed)
             house = drawn_house(seed)
             past, order = history(house), house.order()
-            self.assertTrue(second_account(past, order))
+            self.assertTrue(is_allowed(past, order))
             for turn in range(10):
                 changed = list(order)
                 if changed:
                     spot = changed.pop(chance.randrange(len(changed)))
                     changed.insert(chance.randint(0, len(changed)), spot)
                 answer = allowed(past, changed)
-                self.assertIs(answer, second_account(past, changed), (seed, changed))
+                self.assertIs(answer, is_allowed(past, changed), (seed, changed))
                 answers[answer] += 1
         self.assertGreater(min(answers.values()), 500)
 
