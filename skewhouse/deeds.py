@@ -1,7 +1,7 @@
 """Deeds: how they are written and read, and what each of them asks, tells and leads to."""
 
 from skewhouse.errors import NoDeed, NoNumber
-from skewhouse.words import is_letter, number_of, operand_of, worth
+from skewhouse.words import is_letter, number_of, operand_of, show_parts, worth
 
 MOST_SKIPPED = 40
 SIGNS = ("+", "-")
@@ -62,7 +62,7 @@ def read_deed(text):
 
 
 def show_deed(deed):
-    return " ".join([str(part) for part in deed])
+    return show_parts(deed)
 
 
 def asked(deed, names):

@@ -40,6 +40,10 @@ def written(number):
     return sign + "".join(reversed(parts))
 
 
+def show_parts(parts):
+    return " ".join([part if isinstance(part, str) else written(part) for part in parts])
+
+
 def is_letter(text):
     return len(text) == 1 and "a" <= text <= "z"
 

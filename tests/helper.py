@@ -2,17 +2,28 @@
 
 Account plays the turns over again, by points 52 to 58, with nothing of the package; Told tells of the rows of a log
 what a house is to tell by points 57 and 59. The spots, edges, allowed orders and rings of a history are told over again
-from the words of points 51, 65 and 72 to 75, with nothing of the package either.
+from the words of points 51, 65 and 72 to 77, its ills from those of 83 and 84, the texts of histories, rows and answers
+from those of 63, 64, 91 and 92, with nothing of the package either. run_alone runs a program by itself.
 """
 
 import itertools
 import random
+import re
 
+from skewhouse.deeds import following, let_of, told, under
 from skewhouse.house import House
 from skewhouse.programs import read_program
+from skewhouse.words import worth
 
 WORDS = ["loose", "kept", "make", "watch", "hold"]
 NO_WORDS = ["", "none", "Watch", "watch ", " kept", "wat", "held", "read", "loosekept", "0", "?"]
+
+# What is written as numbers, and the rows of a history's text.
+NUMBER = r"(?:0|-?[1-9][0-9]{0,29})"
+PAIR = NUMBER + r"<(?:\?|" + NUMBER + ")"
+LOOK = "(?:-|" + PAIR + "(?: " + PAIR + ")*)"
+DEAL = re.compile(rf"({NUMBER}) (loose|kept|make|watch|hold):(?: ({LOOK}(?:; {LOOK})*))?")
+MAKE = re.compile(rf"make ({NUMBER}):((?: {NUMBER})+)")
 
 
 def programs_of(*texts):
@@ -219,6 +230,219 @@ def fewest_ring(nodes, pairs):
             if found is not None:
                 return found
     return None
+
+
+def first_unkept(past, word=None):
+    found = []
+    for number, own, looks in past[0]:
+        for place, look in enumerate(looks):
+            found += [(number, place, key) for key, source in look if source == -1 and (word or own) != "loose"]
+    return min(found, default=None)
+
+
+def second_judge(past, word=None):
+    """A second account of points 76 and 77."""
+    unkept = first_unkept(past, word)
+    if unkept is not None:
+        return ("unkept", *unkept)
+    spots, edges = spots_of(past, word), edges_of(past, word)
+    pairs = [edge[:2] for edge in edges]
+    order = least_order(spots, pairs)
+    if order is not None:
+        return ("order", order)
+    ring = fewest_ring(spots, pairs)
+    return ("ring", [next(edge for edge in edges if edge[:2] == pair) for pair in zip(ring, ring[1:] + ring[:1])])
+
+
+def sources_of(past, number, key):
+    """The sources with which the looks of a dealing have the key."""
+    looks = [look for each, word, looks in past[0] if each == number for look in looks]
+    return [source for look in looks for each, source in look if each == key]
+
+
+def comes_ahead(past, number, key, maker):
+    """Whether a look of the dealing has the key, which the maker made, with a source ahead of that make."""
+    makers = [0] + dict(past[1]).get(key, [])
+    return maker in makers and any(source in makers[:makers.index(maker)] for source in sources_of(past, number, key))
+
+
+def is_ill(past, ill):
+    """Whether a tuple is an ill of the history, by the words of point 83; of several skewed ones each."""
+    kind, d, key = ill[0], ill[1], ill[-1]
+    if kind == "lost":
+        makers = [0] + dict(past[1]).get(key, [])
+        follows = (ill[2], d) in list(zip(makers, makers[1:]))
+        return follows and any(source != ill[2] for source in sources_of(past, d, key))
+    if kind == "midway":
+        return any(one != other for one, other in itertools.combinations(sources_of(past, d, key), 2))
+    if kind == "unkept":
+        return any(source == -1 for source in sources_of(past, d, key))
+    one, other, key, other_key = ill[1:]
+    both = comes_ahead(past, one, key, other) and comes_ahead(past, other, other_key, one)
+    return one < other and key != other_key and both
+
+
+def ills_of(past):
+    """A second account of point 83: all that might be an ill, each asked whether it is one."""
+    numbers = [deal[0] for deal in past[0]]
+    keys = {key for deal in past[0] for look in deal[2] for key, source in look} | set(dict(past[1]))
+    found = [("lost", d, right, key) for d in numbers for right in [0] + numbers for key in keys]
+    found += [(kind, d, key) for kind in ("midway", "unkept") for d in numbers for key in keys]
+    found = [ill for ill in found if is_ill(past, ill)]
+    for one, other in itertools.combinations(numbers, 2):
+        skewed = [("skewed", one, other, *pair) for pair in itertools.permutations(keys, 2)]
+        found += sorted(ill for ill in skewed if is_ill(past, ill))[:1]
+    return sorted(found)
+
+
+def unlet_of(past):
+    """A second account of point 84."""
+    words = {number: word for number, word, looks in past[0]}
+    high = {"make", "watch", "hold"}
+    found = []
+    for ill in ills_of(past):
+        levels = {words[number] for number in ill[1:3 if ill[0] == "skewed" else 2]}
+        too_high = {"unkept": high | {"kept"}, "lost": high, "midway": high, "skewed": {"watch", "hold"}}[ill[0]]
+        found += [ill] if levels <= too_high else []
+    return found
+
+
+def rise(numbers):
+    return sorted(set(numbers)) == numbers
+
+
+def second_reading(text):
+    """A second account of points 61, 63 and 64: the history that the text tells, or None."""
+    deals, makes = [], []
+    for row in [] if text == "" else text.split("\n"):
+        deal, make = DEAL.fullmatch(row), MAKE.fullmatch(row)
+        if deal and not makes:
+            looks = [] if deal[3] is None else deal[3].split("; ")
+            deals.append((int(deal[1]), deal[2], [re.findall("([^ <]+)<([^ ]+)", look) for look in looks]))
+        elif make:
+            makes.append((int(make[1]), [int(number) for number in make[2].split()]))
+        else:
+            return None
+    numbers, makers = [deal[0] for deal in deals], dict(makes)
+    if not rise(numbers) or not set(numbers) <= set(range(1, 9)) or not rise([make[0] for make in makes]):
+        return None
+    for made in makers.values():
+        if len(set(made)) < len(made) or not set(made) <= set(numbers):
+            return None
+    found = []
+    for number, word, looks in deals:
+        for look in looks:
+            if not rise([int(key) for key, source in look]):
+                return None
+            for key, source in look:
+                allowed = {"?", "0"} | {str(maker) for maker in makers.get(int(key), []) if maker != number}
+                if source not in allowed:
+                    return None
+        sources = [[(int(key), -1 if source == "?" else int(source)) for key, source in look] for look in looks]
+        found.append((number, word, sources))
+    return (found, makes)
+
+
+def why_text(why):
+    """A second account of point 91, of a reason."""
+    match why:
+        case None:
+            return "none"
+        case ("own",):
+            return "own"
+        case ("ring", numbers):
+            return "ring" + "".join(f" {number}" for number in numbers)
+        case ("first", key, maker):
+            return f"first {key} {maker}"
+        case ("edges", one, key, mid, other_key, other):
+            return f"edges {one} {key} {mid} {other_key} {other}"
+
+
+def row_text(row):
+    """A second account of point 91, of a row."""
+    match row:
+        case (stamp, number, "idle"):
+            return f"{stamp} {number} idle"
+        case (stamp, number, "look", low, high, seen):
+            return f"{stamp} {number} look {low} {high}:" + "".join(f" {key}={value}" for key, value in seen)
+        case (stamp, number, "put", key, None):
+            return f"{stamp} {number} take {key}"
+        case (stamp, number, "put", key, value):
+            return f"{stamp} {number} put {key} {value}"
+        case (stamp, number, "let", letter, value):
+            return f"{stamp} {number} let {letter} {value}"
+        case (stamp, number, "go", place):
+            return f"{stamp} {number} go {place}"
+        case (stamp, number, "wait", others):
+            return f"{stamp} {number} wait" + "".join(f" {other}" for other in others)
+        case (stamp, number, "broken", reason):
+            return f"{stamp} {number} broken {why_text(reason)}"
+        case (stamp, number, "kept", made):
+            pairs = "".join(f" {key}={'-' if value is None else value}" for key, value in made)
+            return f"{stamp} {number} kept:{pairs}"
+
+
+def spots_text(order):
+    return " ".join(f"{number}.{place}" for number, place in order) or "none"
+
+
+def edge_text(edge):
+    (number, place), (other, other_place), why, key = edge
+    middle = why if why == "own" else f"{why} {key}"
+    return f"{number}.{place} {middle} {other}.{other_place}"
+
+
+def verdict_text(answer):
+    """A second account of point 92, of the judge's answers."""
+    match answer:
+        case ("unkept", number, place, key):
+            return f"unkept {number} {place} {key}"
+        case ("order", spots):
+            return f"order {spots_text(spots)}"
+        case ("ring", edges):
+            return "ring " + "; ".join(edge_text(edge) for edge in edges)
+
+
+def ill_text(ill):
+    match ill:
+        case ("lost", d, right, key):
+            return f"lost {d} {right} {key}"
+        case (("midway" | "unkept") as kind, d, key):
+            return f"{kind} {d} {key}"
+        case ("skewed", one, other, key, other_key):
+            return f"skewed {one} {other} {key} {other_key}"
+
+
+def history_text(past):
+    """A second account of point 63."""
+    rows = []
+    for number, word, looks in past[0]:
+        texts = [" ".join(f"{key}<{'?' if source == -1 else source}" for key, source in look) or "-" for look in looks]
+        rows.append(f"{number} {word}:" + (" " + "; ".join(texts) if looks else ""))
+    for key, makers in past[1]:
+        rows.append(f"make {key}: " + " ".join(str(maker) for maker in makers))
+    return "\n".join(rows)
+
+
+def run_alone(rows, deeds):
+    """A program run by itself on plain rows: what its looks see, and the rows that it leaves, None if it stops."""
+    rows, names, place, looks = dict(rows), {}, 0, []
+    while place < len(deeds):
+        deed = deeds[place]
+        if deed[0] in ("read", "sum", "count"):
+            low, high = worth(deed[2], names), worth(deed[-1], names)
+            looks.append(tuple((key, rows[key]) for key in sorted(rows) if low <= key <= high))
+            names[deed[1]] = told(deed, looks[-1])
+        elif deed[0] == "put":
+            rows[worth(deed[1], names)] = worth(deed[2], names)
+        elif deed[0] == "take":
+            rows.pop(worth(deed[1], names), None)
+        elif deed[0] == "let":
+            names[deed[1]] = let_of(deed, names)
+        elif deed[0] == "stop" and under(deed, names):
+            return looks, None
+        place = following(deed, place, names, len(deeds))
+    return looks, rows
 
 
 class Account:

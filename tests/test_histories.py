@@ -3,56 +3,14 @@
 import copy
 import inspect
 import random
-import re
 import unittest
 
 from skewhouse.errors import NoHistory, SkewError
 from skewhouse.histories import history, read_history, show_history
 from skewhouse.house import House
-from tests.helper import WORDS, drawn_history, drawn_house, house_of, woven
+from tests.helper import WORDS, drawn_history, drawn_house, house_of, second_reading, woven
 
 BIG = 10 ** 30 - 1
-NUMBER = r"(?:0|-?[1-9][0-9]{0,29})"
-PAIR = NUMBER + r"<(?:\?|" + NUMBER + ")"
-LOOK = "(?:-|" + PAIR + "(?: " + PAIR + ")*)"
-DEAL = re.compile(rf"({NUMBER}) (loose|kept|make|watch|hold):(?: ({LOOK}(?:; {LOOK})*))?")
-MAKE = re.compile(rf"make ({NUMBER}):((?: {NUMBER})+)")
-
-
-def rise(numbers):
-    return sorted(set(numbers)) == numbers
-
-
-def second_reading(text):
-    """A second account of points 61, 63 and 64: the history that the text tells, or None."""
-    deals, makes = [], []
-    for row in [] if text == "" else text.split("\n"):
-        deal, make = DEAL.fullmatch(row), MAKE.fullmatch(row)
-        if deal and not makes:
-            looks = [] if deal[3] is None else deal[3].split("; ")
-            deals.append((int(deal[1]), deal[2], [re.findall("([^ <]+)<([^ ]+)", look) for look in looks]))
-        elif make:
-            makes.append((int(make[1]), [int(number) for number in make[2].split()]))
-        else:
-            return None
-    numbers, makers = [deal[0] for deal in deals], dict(makes)
-    if not rise(numbers) or not set(numbers) <= set(range(1, 9)) or not rise([make[0] for make in makes]):
-        return None
-    for made in makers.values():
-        if len(set(made)) < len(made) or not set(made) <= set(numbers):
-            return None
-    found = []
-    for number, word, looks in deals:
-        for look in looks:
-            if not rise([int(key) for key, source in look]):
-                return None
-            for key, source in look:
-                allowed = {"?", "0"} | {str(maker) for maker in makers.get(int(key), []) if maker != number}
-                if source not in allowed:
-                    return None
-        sources = [[(int(key), -1 if source == "?" else int(source)) for key, source in look] for look in looks]
-        found.append((number, word, sources))
-    return (found, makes)
 
 
 class OfAHouseTest(unittest.TestCase):

@@ -9,8 +9,7 @@ from skewhouse.histories import history, read_history, show_history
 from skewhouse.house import House
 from skewhouse.judge import judge
 from skewhouse.plays import allowed
-from tests.helper import WORDS, drawn, drawn_history, drawn_house, edges_of, fewest_ring, is_allowed, is_edge
-from tests.helper import least_order, spots_of
+from tests.helper import WORDS, drawn, drawn_history, drawn_house, is_allowed, is_edge, second_judge, spots_of
 
 LOWER = {"loose": "loose", "kept": "loose", "make": "kept", "watch": "make", "hold": "make"}
 
@@ -28,28 +27,6 @@ def allowed_orders(past, word=None):
     """All that are allowed, in the order in which lists are compared."""
     orders = [list(order) for order in itertools.permutations(spots_of(past, word))]
     return [order for order in orders if is_allowed(past, order, word)]
-
-
-def first_unkept(past, word=None):
-    found = []
-    for number, own, looks in past[0]:
-        for place, look in enumerate(looks):
-            found += [(number, place, key) for key, source in look if source == -1 and (word or own) != "loose"]
-    return min(found, default=None)
-
-
-def second_judge(past, word=None):
-    """A second account of points 76 and 77."""
-    unkept = first_unkept(past, word)
-    if unkept is not None:
-        return ("unkept", *unkept)
-    spots, edges = spots_of(past, word), edges_of(past, word)
-    pairs = [edge[:2] for edge in edges]
-    order = least_order(spots, pairs)
-    if order is not None:
-        return ("order", order)
-    ring = fewest_ring(spots, pairs)
-    return ("ring", [next(edge for edge in edges if edge[:2] == pair) for pair in zip(ring, ring[1:] + ring[:1])])
 
 
 def with_words(past, change):

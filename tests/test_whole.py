@@ -7,7 +7,7 @@ from skewhouse.histories import history, read_history, show_history
 from skewhouse.house import House
 from skewhouse.plays import allowed
 from skewhouse.words import worth
-from tests.helper import WORDS, Account, Told, drawn, drawn_house
+from tests.helper import WORDS, Account, Told, drawn, drawn_house, run_alone
 
 SEEDS = range(1500)
 SERIAL = ["watch", "hold"]
@@ -59,27 +59,6 @@ class Replay:
         self.place = following(deed, self.place, self.names, len(self.deeds))
         if row[2] == "go":
             test.assertEqual(self.place, row[3])
-
-
-def run_alone(rows, deeds):
-    """A program run by itself on plain rows: what its looks see, and the rows that it leaves, None if it stops."""
-    rows, names, place, looks = dict(rows), {}, 0, []
-    while place < len(deeds):
-        deed = deeds[place]
-        if deed[0] in ("read", "sum", "count"):
-            low, high = worth(deed[2], names), worth(deed[-1], names)
-            looks.append(tuple((key, rows[key]) for key in sorted(rows) if low <= key <= high))
-            names[deed[1]] = told(deed, looks[-1])
-        elif deed[0] == "put":
-            rows[worth(deed[1], names)] = worth(deed[2], names)
-        elif deed[0] == "take":
-            rows.pop(worth(deed[1], names), None)
-        elif deed[0] == "let":
-            names[deed[1]] = let_of(deed, names)
-        elif deed[0] == "stop" and under(deed, names):
-            return looks, None
-        place = following(deed, place, names, len(deeds))
-    return looks, rows
 
 
 class SecondAccountTest(unittest.TestCase):
